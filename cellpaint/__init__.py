@@ -1,0 +1,1 @@
+"""Pictures painted on a grid of cells."""
