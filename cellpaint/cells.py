@@ -1,5 +1,12 @@
 """The grid of cells that the calls work on."""
 
+CLEAR = 0
+PAINTED = 1
+
+# The steps, across and up, from a cell to those that have a side in common with it, and to all that meet it.
+TO_NEIGHBOURS = ((-1, 0), (1, 0), (0, -1), (0, 1))
+TO_MEETING = ((-1, -1), (-1, 0), (-1, 1), (0, -1), (0, 1), (1, -1), (1, 0), (1, 1))
+
 
 class Grid:
     """A grid; rows[j][i] is 1 if the cell i, j is painted and 0 if it's clear."""
@@ -14,11 +21,19 @@ class Grid:
         self.width = width
         self.height = height
         self.size = size
-        self.rows = [[0] * width for j in range(height)]
+        self.rows = [[CLEAR] * width for j in range(height)]
 
     def has_cell(self, i, j):
         """Tell whether there's a cell i, j."""
-        return 0 <= i < self.width and 0 <= j < self.height
+        return 0 <= i < self.width and self.has_row(j)
+
+    def has_row(self, j):
+        """Tell whether there's a row j."""
+        return 0 <= j < self.height
+
+    def is_at_border(self, i, j):
+        """Tell whether the cell i, j is in the first or last column, or in the lowest or highest row."""
+        return i in (0, self.width - 1) or j in (0, self.height - 1)
 
     def turn(self, i, j, way):
         """Make the cell painted (way 1) or clear (way 0); give 1 if it was otherwise before, else 0."""
@@ -26,15 +41,17 @@ class Grid:
         self.rows[j][i] = way
         return changed
 
-    def cover(self, box, way):
-        """Turn all cells that the box overlaps this way; give how many were otherwise before."""
+    def turn_all(self, cells, way):
+        """Turn all these cells this way; give how many were otherwise before."""
+        return sum([self.turn(i, j, way) for i, j in cells])
+
+    def touched(self, box):
+        """Give the cells that the box overlaps."""
         columns = overlapped(box.left, box.right, self.left, self.size, self.width)
-        lines = overlapped(box.low, box.high, self.low, self.size, self.height)
-        changed = 0
-        for j in lines:
-            for i in columns:
-                changed += self.turn(i, j, way)
-        return changed
+        cells = []
+        for j in overlapped(box.low, box.high, self.low, self.size, self.height):
+            cells.extend([(i, j) for i in columns])
+        return cells
 
     def invert(self):
         """Make painted cells clear and clear ones painted."""
@@ -68,8 +85,12 @@ class Grid:
 
     def neighbours(self, i, j):
         """Give the cells of the grid that have a side in common with the cell i, j."""
-        around = [(i - 1, j), (i + 1, j), (i, j - 1), (i, j + 1)]
-        return [place for place in around if self.has_cell(place[0], place[1])]
+        return [place for place in stepped(i, j, TO_NEIGHBOURS) if self.has_cell(place[0], place[1])]
+
+
+def stepped(i, j, steps):
+    """Give the places to which these steps lead from i, j; the grid may have no cell there."""
+    return [(i + across, j + up) for across, up in steps]
 
 
 def overlapped(start, end, origin, size, many):

@@ -4,16 +4,16 @@ Each call takes what it is given from the source before it does anything, so
 that a refusal leaves both the grid and the calls behind it as they were.
 """
 
-from cellpaint.cells import Grid
+from cellpaint.cells import CLEAR, PAINTED, Grid
 from cellpaint.gridtexts import rows_of, text_of
+from cellpaint.measures import edge_of, painted_in, pairs_in, runs_of, squares_in
+from cellpaint.parts import holes_of, pieces_of
 from cellpaint.pictures import boxes_of
 from cellpaint.source import Source
 
-CLEAR = 0
-PAINTED = 1
-
 OUT_OF_RANGE = -1
-NO_CELL = -2
+NOT_ON_GRID = -2
+NO_PIECE = -3
 NO_SUCH_TEXT = -5
 
 LONGEST_SIDE = 40
@@ -48,7 +48,7 @@ def cover_marks(grid, picture, way):
     boxes = boxes_of(picture)
     if boxes is None:
         return [NO_SUCH_TEXT]
-    return [0, sum([grid.cover(box, way) for box in boxes])]
+    return [0, sum([grid.turn_all(grid.touched(box), way) for box in boxes])]
 
 
 def set_cell(grid, source):
@@ -56,7 +56,7 @@ def set_cell(grid, source):
     j = source.take_number()
     way = source.take_number()
     if not grid.has_cell(i, j):
-        return [NO_CELL]
+        return [NOT_ON_GRID]
     if way not in (CLEAR, PAINTED):
         return [OUT_OF_RANGE]
     grid.turn(i, j, way)
@@ -98,8 +98,76 @@ def at(grid, source):
     i = source.take_number()
     j = source.take_number()
     if not grid.has_cell(i, j):
-        return [NO_CELL]
+        return [NOT_ON_GRID]
     return [0, grid.rows[j][i]]
+
+
+def area(grid, source):
+    return [0, painted_in(grid.rows)]
+
+
+def runs(grid, source):
+    j = source.take_number()
+    if not grid.has_row(j):
+        return [NOT_ON_GRID]
+    return [0] + runs_of(grid.rows[j])
+
+
+def pieces(grid, source):
+    return [0] + [len(cells) for cells in pieces_of(grid)]
+
+
+def piece(grid, source):
+    i = source.take_number()
+    j = source.take_number()
+    if not grid.has_cell(i, j):
+        return [NOT_ON_GRID]
+    if grid.rows[j][i] == CLEAR:
+        return [NO_PIECE]
+    return [0] + [k for k, cells in enumerate(pieces_of(grid)) if (i, j) in cells]
+
+
+def keep(grid, source):
+    k = source.take_number()
+    found = pieces_of(grid)
+    if not 0 <= k < len(found):
+        return [NO_PIECE]
+    others = found[:k] + found[k + 1:]
+    return [0, sum([grid.turn_all(cells, CLEAR) for cells in others])]
+
+
+def holes(grid, source):
+    return [0, len(holes_of(grid))]
+
+
+def fill(grid, source):
+    return [0, sum([grid.turn_all(cells, PAINTED) for cells in holes_of(grid)])]
+
+
+def edge(grid, source):
+    return [0, edge_of(grid.rows)]
+
+
+def count(grid, source):
+    c = painted_in(grid.rows)
+    p = pairs_in(grid.rows)
+    q = squares_in(grid.rows)
+    return [0, c, p, q, c - p + q]
+
+
+def marks(grid, source):
+    k = source.take_number()
+    boxes = boxes_of(source.take_row())
+    found = pieces_of(grid)
+    if not 0 <= k < len(found):
+        return [NO_PIECE]
+    if boxes is None:
+        return [NO_SUCH_TEXT]
+    return [0] + [number for number, box in enumerate(boxes) if touches_one(grid, box, found[k])]
+
+
+def touches_one(grid, box, cells):
+    return len(set(grid.touched(box)) & set(cells)) > 0
 
 
 CALLS = {
@@ -113,6 +181,16 @@ CALLS = {
     7: text,
     8: read,
     9: at,
+    10: area,
+    11: runs,
+    12: pieces,
+    13: piece,
+    14: keep,
+    15: holes,
+    16: fill,
+    17: edge,
+    18: count,
+    19: marks,
 }
 
 

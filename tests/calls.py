@@ -60,6 +60,64 @@ def at(i, j):
     return [9, i, j]
 
 
+def area():
+    return [10]
+
+
+def runs(j):
+    return [11, j]
+
+
+def pieces():
+    return [12]
+
+
+def piece(i, j):
+    return [13, i, j]
+
+
+def keep(k):
+    return [14, k]
+
+
+def holes():
+    return [15]
+
+
+def fill():
+    return [16]
+
+
+def edge():
+    return [17]
+
+
+def count():
+    return [18]
+
+
+def marks(k, picture):
+    return [19, k] + row(picture)
+
+
+def picture(*told):
+    return "\n".join(("0 0 0",) + told)
+
+
+def rule(x, y, width, height):
+    return "r 0 %d %d %d %d" % (x, y, width, height)
+
+
+def sign(x, y, width, height, depth):
+    return "s a 0 0 0 %d %d %d %d %d" % (x, y, width, height, depth)
+
+
+def drawn(words):
+    """Give the two calls that begin a grid as great as these words show it, and read them."""
+    rows = words.split("/")
+    return [(begin(0, 0, len(rows[0]), len(rows), 1), [0]), (read(lines(words)), [0])]
+
+
 def joined(calls):
     """Give the one list of numbers for these calls, which keeps to the bounds that the document sets."""
     numbers = [number for call in calls for number in call]

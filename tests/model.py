@@ -1,4 +1,4 @@
-"""The calls 0 to 9 over again, cell by cell in the document's own words, to compare with."""
+"""The calls over again, cell by cell in the document's own words, to compare with."""
 
 import re
 
@@ -44,6 +44,23 @@ def boxes_in(picture):
 
 def overlap(one, other):
     return (max(one[0], other[0]) < min(one[2], other[2])) and (max(one[1], other[1]) < min(one[3], other[3]))
+
+
+def neighbours(one, other):
+    return abs(one[0] - other[0]) + abs(one[1] - other[1]) == 1
+
+
+def meet(one, other):
+    return one != other and abs(one[0] - other[0]) <= 1 and abs(one[1] - other[1]) <= 1
+
+
+def joined_groups(cells, together):
+    """Give the groups of cells that hang together, by joining groups as long as cells are added one by one."""
+    groups = []
+    for cell in cells:
+        near = [group for group in groups if any(together(cell, other) for other in group)]
+        groups = [group for group in groups if group not in near] + [{cell}.union(*near)]
+    return groups
 
 
 class Model:
@@ -123,3 +140,70 @@ class Model:
         if (i, j) not in self.boxes:
             return [-2]
         return [0, 1 if (i, j) in self.painted else 0]
+
+    def area(self):
+        return [0, len(self.painted)]
+
+    def runs(self, j):
+        if not 0 <= j < self.height:
+            return [-2]
+        row = self.words().split("\n")[self.height - 1 - j]
+        found = [0]
+        for match in re.finditer("#+", row):
+            found.extend([match.start(), len(match.group())])
+        return found
+
+    def all_pieces(self):
+        """Give the pieces as sets of cells, in the order of their numbers."""
+        groups = joined_groups(self.painted, neighbours)
+        return sorted(groups, key=lambda group: min((j, i) for i, j in group))
+
+    def pieces(self):
+        return [0] + [len(group) for group in self.all_pieces()]
+
+    def piece(self, i, j):
+        if (i, j) not in self.boxes:
+            return [-2]
+        if (i, j) not in self.painted:
+            return [-3]
+        return [0, [(i, j) in group for group in self.all_pieces()].index(True)]
+
+    def keep(self, k):
+        groups = dict(enumerate(self.all_pieces()))
+        return self.become(groups[k]) if k in groups else [-3]
+
+    def all_holes(self):
+        def is_inner(i, j):
+            return 0 < i < self.width - 1 and 0 < j < self.height - 1
+        groups = joined_groups(set(self.boxes) - self.painted, meet)
+        return [group for group in groups if all(is_inner(i, j) for i, j in group)]
+
+    def holes(self):
+        return [0, len(self.all_holes())]
+
+    def fill(self):
+        return self.become(self.painted.union(*self.all_holes()))
+
+    def edge(self):
+        """A side is told by the middle of it, in halves of a cell."""
+        sides = [(2 * i + across, 2 * j + up) for i, j in self.painted
+                 for across, up in ((-1, 0), (1, 0), (0, -1), (0, 1))]
+        return [0, len([side for side in sides if sides.count(side) == 1])]
+
+    def count(self):
+        pairs = [(one, other) for one in self.painted for other in self.painted
+                 if one < other and neighbours(one, other)]
+        squares = [(i, j) for i, j in self.painted
+                   if {(i + 1, j), (i, j + 1), (i + 1, j + 1)} <= self.painted]
+        c, p, q = len(self.painted), len(pairs), len(squares)
+        return [0, c, p, q, c - p + q]
+
+    def marks(self, k, picture):
+        groups = dict(enumerate(self.all_pieces()))
+        boxes = boxes_in(picture)
+        if k not in groups:
+            return [-3]
+        if boxes is None:
+            return [-5]
+        return [0] + [number for number, box in enumerate(boxes)
+                      if any(overlap(self.boxes[cell], box) for cell in groups[k])]

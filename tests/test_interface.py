@@ -5,18 +5,24 @@ import io
 import unittest
 
 from cellpaint.grid import answers
-from tests.calls import (CallCase, at, begin, coded, erase, grow, invert, joined, lines, paint, read, run, set_cell,
-                         shrink, text)
+from tests.calls import (CallCase, area, at, begin, coded, count, edge, erase, fill, grow, holes, invert, joined, keep,
+                         lines, marks, paint, piece, pieces, read, run, runs, set_cell, shrink, text)
 
 ALL_CALLS = joined((
     begin(0, 0, 3, 2, 10), paint("0 0 0\nr 0 0 0 11 1"), text(), erase("0 0 0\nr 0 0 0 1 1"), set_cell(2, 1, 1),
     invert(), grow(1), shrink(1), read(lines("#../..#")), at(0, 1), paint("no picture"), begin(0, 0, 0, 0, 0),
-    set_cell(5, 5, 1), set_cell(0, 0, 5), at(-1, 0), text(),
+    set_cell(5, 5, 1), set_cell(0, 0, 5), at(-1, 0), text(), area(), runs(1), pieces(), piece(2, 0), piece(0, 1),
+    marks(0, "0 0 0\nr 0 0 0 1 1\nr 0 20 0 1 1"), keep(1), edge(), count(), begin(-1, -1, 3, 3, 1),
+    read(lines("###/#.#/###")), holes(), fill(), runs(3), piece(3, 0), piece(0, 0), keep(5), marks(5, ""), marks(0, ""),
+    text(),
 ))
 ALL_ANSWERS = [
     1, 0, 2, 0, 2, 8, 0, 46, 46, 46, 10, 35, 35, 46, 2, 0, 1, 1, 0,
     1, 0, 2, 0, 2, 2, 0, 0, 1, 0, 2, 0, 1, 1, -5, 1, -1,
-    1, -2, 1, -1, 1, -2, 8, 0, 35, 46, 46, 10, 46, 46, 35,
+    1, -2, 1, -1, 1, -2, 8, 0, 35, 46, 46, 10, 46, 46, 35, 2, 0, 2, 3, 0, 0, 1, 3, 0, 1, 1, 2, 0, 0, 2, 0, 1,
+    2, 0, 1, 2, 0, 1, 2, 0, 4, 5, 0, 1, 0, 0, 1, 1, 0,
+    1, 0, 2, 0, 1, 2, 0, 1, 1, -2, 1, -2, 2, 0, 0, 1, -3, 1, -3, 1, -5,
+    12, 0, 35, 35, 35, 10, 35, 35, 35, 10, 35, 35, 35,
 ]
 
 
@@ -43,6 +49,17 @@ class OneList(CallCase):
         self.assertEqual(answers([7]), [2, 0, 46])
         self.assertEqual(answers([8, 1, 35]), [1, 0])
         self.assertEqual(answers([9, 0, 0]), [2, 0, 0])
+        self.assertEqual(answers([4, 10]), [1, 0, 2, 0, 1])
+        self.assertEqual(answers([4, 11, 0]), [1, 0, 3, 0, 0, 1])
+        self.assertEqual(answers([4, 12]), [1, 0, 2, 0, 1])
+        self.assertEqual(answers([4, 13, 0, 0]), [1, 0, 2, 0, 0])
+        self.assertEqual(answers([4, 14, 0]), [1, 0, 2, 0, 0])
+        self.assertEqual(answers([4, 15]), [1, 0, 2, 0, 0])
+        self.assertEqual(answers([4, 16]), [1, 0, 2, 0, 0])
+        self.assertEqual(answers([4, 17]), [1, 0, 2, 0, 4])
+        self.assertEqual(answers([4, 18]), [1, 0, 5, 0, 1, 0, 0, 1])
+        self.assertEqual(answers([4, 19, 0, 5] + coded("0 0 0")), [1, 0, 1, 0])
+        self.assertEqual(answers([4, 19, 0, 17] + coded("0 0 0\nr 0 0 0 1 1")), [1, 0, 2, 0, 0])
 
     def test_all_calls_one_behind_another(self):
         self.assertEqual(answers(list(ALL_CALLS)), ALL_ANSWERS)
@@ -50,7 +67,9 @@ class OneList(CallCase):
     def test_refused_calls_are_gone_past_whole(self):
         self.check((begin(7, 7, 7, 0, 7), [-1]), (paint([7] * 20), [-5]), (erase([4, 4, 4]), [-5]),
                    (set_cell(4, 4, 4), [-2]), (set_cell(0, 0, 4), [-1]), (grow(-4), [-1]), (shrink(104), [-1]),
-                   (read([4, 4]), [-5]), (at(4, 4), [-2]), (text(), "."))
+                   (read([4, 4]), [-5]), (at(4, 4), [-2]), (runs(4), [-2]), (piece(4, 4), [-2]), (piece(0, 0), [-3]),
+                   (keep(4), [-3]), (marks(4, [4, 4, 4]), [-3]), (text(), "."), (set_cell(0, 0, 1), [0]),
+                   (marks(0, [4, 4, 4]), [-5]), (marks(4, "0 0 0"), [-3]), (text(), "#"))
 
     def test_rows_hold_numbers_that_are_calls_too(self):
         self.check((read([7, 7, 7]), [-5]), (paint([]), [-5]), (read([]), [-5]), (read([35]), [0]), (text(), "#"))
@@ -75,6 +94,14 @@ class OneList(CallCase):
                           (set_cell(39, 39, 0), [0]), (shrink(100), [0, 1599])])
         self.check(*steps)
 
+    def test_200_times_all_over_the_greatest_grid(self):
+        steps = [(begin(0, 0, 40, 40, 1), [0]), (invert(), [0]), (set_cell(20, 20, 0), [0])]
+        for time in range(19):
+            steps.extend([(area(), [0, 1599]), (pieces(), [0, 1599]), (piece(39, 39), [0, 0]), (keep(0), [0, 0]),
+                          (holes(), [0, 1]), (fill(), [0, 1]), (edge(), [0, 160]), (count(), [0, 1600, 3120, 1521, 1]),
+                          (set_cell(20, 20, 0), [0]), (edge(), [0, 164])])
+        self.check(*steps)
+
     def test_a_list_of_17000_numbers(self):
         mark = "\nr 0 0 0 1 1"
         picture = "0 0 0" + mark * 700
@@ -83,12 +110,21 @@ class OneList(CallCase):
         self.assertEqual(len(calls), 17000)
         self.assertEqual(answers(calls), [1, 0, 2, 0, 1, 1, -5])
 
+    def test_marks_in_a_list_of_17000_numbers(self):
+        told = "0 0 0" + "\nr 0 0 0 50 50" * 600
+        rest = "0 0 0" + "\nr 0 0 0 50 50" * 576
+        rest += " " * (17000 - len(joined((begin(0, 0, 40, 40, 1), invert(), marks(0, told), marks(0, rest)))))
+        calls = joined((begin(0, 0, 40, 40, 1), invert(), marks(0, told), marks(0, rest)))
+        self.assertEqual(len(calls), 17000)
+        self.assertEqual(answers(calls), [1, 0, 1, 0, 601, 0] + list(range(600)) + [1, -5])
+
     def test_the_greatest_and_least_numbers(self):
         huge = 10 ** 18
         for number in (huge, -huge):
             self.check((begin(number, number, number, number, number), [-1]), (set_cell(number, number, number), [-2]),
                        (set_cell(0, 0, number), [-1]), (grow(number), [-1]), (shrink(number), [-1]),
-                       (at(number, number), [-2]), (text(), "."))
+                       (at(number, number), [-2]), (runs(number), [-2]), (piece(number, number), [-2]),
+                       (keep(number), [-3]), (marks(number, "0 0 0"), [-3]), (text(), "."))
 
 
 class NothingElse(unittest.TestCase):

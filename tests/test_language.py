@@ -133,6 +133,37 @@ class Forms(unittest.TestCase):
                        and isinstance(node.value.func, ast.Name) and node.value.func.id in WALKED)
 
 
+    def test_sets_are_not_kept_or_walked(self):
+        def is_set(node):
+            if isinstance(node, ast.BinOp):
+                return is_set(node.left) and is_set(node.right)
+            return isinstance(node, ast.Call) and isinstance(node.func, ast.Name) and node.func.id in ("set", "frozenset")
+
+        def asked_in(node):
+            """Give what stands in this node in a place where a set may be made."""
+            if isinstance(node, ast.Compare):
+                return [node.left] + node.comparators
+            if isinstance(node, ast.Call) and isinstance(node.func, ast.Name) and node.func.id in ("len", "sorted"):
+                return node.args
+            return [node.left, node.right] if is_set(node) and isinstance(node, ast.BinOp) else []
+
+        for path, tree in trees():
+            allowed = [id(part) for node in ast.walk(tree) for part in asked_in(node)]
+            for node in ast.walk(tree):
+                self.assertTrue(not is_set(node) or id(node) in allowed, (path, getattr(node, "lineno", 0)))
+
+    def test_methods_are_called_where_they_stand(self):
+        methods = set(METHODS)
+        for path, tree in trees():
+            methods |= methods_and_values(tree)[0]
+        for path, tree in trees():
+            called = [id(node.func) for node in ast.walk(tree) if isinstance(node, ast.Call)]
+            keys = [id(node.value) for node in ast.walk(tree) if isinstance(node, ast.keyword) and node.arg == "key"]
+            for node in ast.walk(tree):
+                if isinstance(node, ast.Attribute) and node.attr in methods:
+                    self.assertIn(id(node), called + keys, (path, node.lineno))
+
+
 class TopOfFiles(unittest.TestCase):
     def test_only_what_may_stand_there(self):
         for path, tree in trees():

@@ -2,10 +2,12 @@
 
 import unittest
 
+from cellpaint.grid import answers
 from tests import calls
 from tests.model import Model
 
-NAMES = ("begin", "paint", "erase", "set_cell", "invert", "grow", "shrink", "text", "read", "at")
+NAMES = ("begin", "paint", "erase", "set_cell", "invert", "grow", "shrink", "text", "read", "at",
+         "area", "runs", "pieces", "piece", "keep", "holes", "fill", "edge", "count", "marks")
 HARD_NUMBERS = ("-0", "+1", "01", "", "1000000001", "-1000000001", "1000000000", "-1000000000", "-1", "3", "x")
 
 
@@ -48,12 +50,20 @@ def picture(numbers):
 def grid_words(numbers, model):
     width = model.width + (numbers.below(12) == 0)
     height = model.height + (numbers.below(12) == 0)
-    rows = ["".join([numbers.one_of("#.") for i in range(width)]) for j in range(height)]
+    # Holes and pieces of several cells come about if there is more of one sign than of the other.
+    signs = numbers.one_of(("#.", "##.", "###.", "#..", "#####."))
+    rows = ["".join([numbers.one_of(signs) for i in range(width)]) for j in range(height)]
     return calls.coded("\n".join(rows) + numbers.one_of(("",) * 15 + ("\n", "#", " ")))
 
 
 def cell(numbers, model):
     return [numbers.between(-1, model.width), numbers.between(-1, model.height)]
+
+
+def piece_number(numbers, model):
+    """Give mostly the number of a piece that is there."""
+    many = len(model.pieces()) - 1
+    return numbers.between(-1, many) if many == 0 or numbers.below(5) == 0 else numbers.below(many)
 
 
 def given_to(name, numbers, model):
@@ -69,28 +79,90 @@ def given_to(name, numbers, model):
         return [numbers.one_of((0, 1, 1, 1, 2, 2, 3, 5, 100, -1, 101))]
     if name == "read":
         return [grid_words(numbers, model)]
-    return cell(numbers, model) if name == "at" else []
+    if name == "runs":
+        return [numbers.between(-1, model.height)]
+    if name == "keep":
+        return [piece_number(numbers, model)]
+    if name == "marks":
+        return [piece_number(numbers, model), picture(numbers)]
+    return cell(numbers, model) if name in ("at", "piece") else []
+
+
+def shuffled_names(numbers):
+    """Give all calls' names, and those of most of them several times, in some order."""
+    # Much that is read keeps the grid from being all clear or all painted for long.
+    left_over = list(NAMES) + list(NAMES[1:]) * 3 + ["read"] * 20
+    names = []
+    while left_over:
+        names.append(left_over.pop(numbers.below(len(left_over))))
+    return names
 
 
 class Compared(unittest.TestCase):
-    def check_list(self, seed, many):
+    def check_list(self, seed):
+        """One list of near 200 calls with all of the calls in it, the grid's text asked for behind each."""
         numbers = Numbers(seed)
         model = Model()
-        made = [calls.begin(-7, -9, 8, 7, 6)]
-        expected = [model.begin(-7, -9, 8, 7, 6)]
-        for step in range(many):
-            # A new grid each few calls only, so that something comes to stand on it.
-            name = numbers.one_of(NAMES if step % 9 == 0 else NAMES[1:])
+        made = [calls.begin(-7, -9, 8, 7, 6), calls.text()]
+        expected = [model.begin(-7, -9, 8, 7, 6), model.text()]
+        for name in shuffled_names(numbers):
             given = given_to(name, numbers, model)
-            made.append(getattr(calls, name)(*given))
-            expected.append(getattr(model, name)(*given))
-            made.append(calls.text())
-            expected.append(model.text())
+            made.extend([getattr(calls, name)(*given), calls.text()])
+            expected.extend([getattr(model, name)(*given), model.text()])
         self.assertEqual(calls.run(*made), expected, "seed %d" % seed)
+        handed = calls.joined(made)
+        self.assertEqual(answers(handed), answers(calls.joined(made)))
+        self.assertEqual(handed, calls.joined(made))
 
     def test_many_lists(self):
-        for seed in range(150):
-            self.check_list(seed, 60)
+        for seed in range(100):
+            self.check_list(seed)
+
+    def test_small_grids_cell_by_cell(self):
+        """All grids of some small sizes, with what is asked of the whole grid."""
+        for width, height in ((1, 1), (1, 4), (4, 1), (2, 2), (2, 3), (3, 2), (3, 3), (4, 3), (3, 4)):
+            for number in range(2 ** (width * height)):
+                self.check_grid(width, height, number)
+
+    def check_grid(self, width, height, number):
+        model = Model()
+        signs = [".#"[number >> place & 1] for place in range(width * height)]
+        words = calls.coded("\n".join(["".join(signs[j * width:(j + 1) * width]) for j in range(height)]))
+        model.begin(0, 0, width, height, 1)
+        model.read(words)
+        names = ("area", "pieces", "holes", "edge", "count", "fill", "text")
+        made = [calls.begin(0, 0, width, height, 1), calls.read(words)] + [getattr(calls, name)() for name in names]
+        expected = [getattr(model, name)() for name in names]
+        found = calls.run(*made)[2:]
+        self.assertEqual(found, expected, words)
+        self.assertEqual(len(found[1]) - 1 - found[2][1], found[4][4], words)
+
+    def test_marks_of_every_piece(self):
+        for seed in range(60):
+            numbers = Numbers(seed)
+            model = Model()
+            begun = [numbers.between(-30, 30), numbers.between(-30, 30), numbers.between(1, 9), numbers.between(1, 9),
+                     numbers.between(1, 12)]
+            model.begin(*begun)
+            words = "\n".join(["".join([numbers.one_of("##.") for i in range(begun[2])]) for j in range(begun[3])])
+            model.read(calls.coded(words))
+            rows = [" ".join([str(field) for field in mark_fields(numbers)]) for mark in range(20)]
+            told = calls.coded("\n".join(["0 0 0"] + rows))
+            asked = range(-1, len(model.all_pieces()) + 1)
+            found = calls.run(calls.begin(*begun), calls.read(words), *[calls.marks(k, told) for k in asked])[2:]
+            self.assertEqual(found, [model.marks(k, told) for k in asked], "seed %d" % seed)
+
+    def test_two_ways_to_count_on_great_grids(self):
+        for seed in range(40):
+            numbers = Numbers(seed)
+            signs = "#" * (seed % 8 + 1) + "." * (8 - seed % 7)
+            width, height = numbers.between(30, 40), numbers.between(30, 40)
+            words = "\n".join(["".join([numbers.one_of(signs) for i in range(width)]) for j in range(height)])
+            found = calls.run(calls.begin(0, 0, width, height, 1), calls.read(words), calls.pieces(), calls.holes(),
+                              calls.count(), calls.fill(), calls.holes(), calls.pieces(), calls.count())[2:]
+            self.assertEqual(len(found[0]) - 1 - found[1][1], found[2][4], "seed %d" % seed)
+            self.assertEqual(sum(found[0]) + found[3][1], sum(found[5]), "seed %d" % seed)
+            self.assertEqual((found[4], len(found[5]) - 1), ([0, 0], found[6][4]), "seed %d" % seed)
 
     def test_distances_on_a_great_grid(self):
         for seed in range(6):

@@ -1,18 +1,6 @@
 """Points 2 and 3: paint and erase, and which cells a mark touches."""
 
-from tests.calls import CallCase, begin, erase, invert, lines, paint, read, text
-
-
-def picture(*marks):
-    return "\n".join(("0 0 0",) + marks)
-
-
-def rule(x, y, width, height):
-    return "r 0 %d %d %d %d" % (x, y, width, height)
-
-
-def sign(x, y, width, height, depth):
-    return "s a 0 0 0 %d %d %d %d %d" % (x, y, width, height, depth)
+from tests.calls import CallCase, begin, erase, invert, lines, paint, picture, read, rule, sign, text
 
 
 class Touching(CallCase):
